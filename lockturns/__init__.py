@@ -1,0 +1,1 @@
+"""Lockturns: yes/no tasks as rows of turns of a lock."""

@@ -1,0 +1,119 @@
+"""Values for the tests, and the document's words worked out the long way."""
+
+from itertools import permutations
+
+STILL_LOCK = ((0, 1, 2),)
+SQUARE = ((1, 2, 3, 0), (3, 2, 1, 0))
+TRIANGLE = ((1, 2, 0), (1, 0, 2))
+FIVE = ((1, 2, 3, 4, 0), (1, 2, 0, 3, 4))
+
+# name: (lock, number of turns, nilpotent, solvable, prime)
+LOCKS = {
+    "still": (STILL_LOCK, 1, True, True, None),
+    "four times still": (((0, 1),) * 4, 1, True, True, None),
+    "two places": (((1, 0),), 2, True, True, 2),
+    "three round": (((1, 2, 0),), 3, True, True, 3),
+    "four round": (((1, 2, 3, 0),), 4, True, True, 2),
+    "five round": (((1, 2, 3, 4, 0),), 5, True, True, 5),
+    "seven round": (((1, 2, 3, 4, 5, 6, 0),), 7, True, True, 7),
+    "eight round": (((1, 2, 3, 4, 5, 6, 7, 0),), 8, True, True, 2),
+    "nine round": (((1, 2, 3, 4, 5, 6, 7, 8, 0),), 9, True, True, 3),
+    "two and three round": (((1, 0, 3, 4, 2),), 6, True, True, None),
+    "two, three and four round": (((1, 0, 2, 3, 4, 5, 6, 7, 8), (0, 1, 3, 4, 2, 5, 6, 7, 8),
+                                   (0, 1, 2, 3, 4, 6, 7, 8, 5)), 24, True, True, None),
+    "square": (SQUARE, 8, True, True, 2),
+    "square and three round": (((1, 2, 3, 0, 4, 5, 6), (3, 2, 1, 0, 4, 5, 6),
+                                (0, 1, 2, 3, 5, 6, 4)), 24, True, True, None),
+    "quaternions": (((1, 2, 3, 0, 5, 6, 7, 4), (4, 7, 6, 5, 2, 1, 0, 3)), 8, True, True, 2),
+    "twos": (((1, 0, 2, 3, 4, 5, 6, 7, 8), (0, 1, 3, 2, 4, 5, 6, 7, 8),
+              (0, 1, 2, 3, 5, 4, 6, 7, 8), (0, 1, 2, 3, 4, 5, 7, 6, 8)), 16, True, True, 2),
+    "threes over three": (((1, 2, 0, 3, 4, 5, 6, 7, 8), (3, 4, 5, 6, 7, 8, 0, 1, 2)),
+                          81, True, True, 3),
+    "octagon": (((1, 2, 3, 4, 5, 6, 7, 0), (7, 6, 5, 4, 3, 2, 1, 0)), 16, True, True, 2),
+    "two squares over two": (((1, 0, 2, 3, 4, 5, 6, 7), (2, 3, 0, 1, 4, 5, 6, 7),
+                              (4, 5, 6, 7, 0, 1, 2, 3)), 128, True, True, 2),
+    "triangle": (TRIANGLE, 6, False, True, None),
+    "triangle and two": (((1, 2, 0, 3, 4), (1, 0, 2, 4, 3)), 6, False, True, None),
+    "triangle beside two": (((1, 2, 0, 3, 4), (1, 0, 2, 3, 4), (0, 1, 2, 4, 3)),
+                            12, False, True, None),
+    "even four": (((1, 2, 0, 3), (1, 0, 3, 2)), 12, False, True, None),
+    "four": (((1, 2, 3, 0), (1, 0, 2, 3)), 24, False, True, None),
+    "twenty of five": (((1, 2, 3, 4, 0), (0, 2, 4, 1, 3)), 20, False, True, None),
+    "twelve pointed": (((1, 2, 0, 3, 4, 5, 6), (1, 0, 2, 4, 5, 6, 3)), 12, False, True, None),
+    "triangles over two": (((1, 2, 0, 3, 4, 5), (1, 0, 2, 3, 4, 5), (3, 4, 5, 0, 1, 2)),
+                           72, False, True, None),
+    "even five": (FIVE, 60, False, False, None),
+    "five": (((1, 2, 3, 4, 0), (1, 0, 2, 3, 4)), 120, False, False, None),
+    "even five of six": (((1, 2, 3, 4, 0, 5), (5, 4, 2, 3, 1, 0)), 60, False, False, None),
+    "even five beside two and two": (
+        ((1, 2, 3, 4, 0, 5, 6, 7, 8), (1, 2, 0, 3, 4, 5, 6, 7, 8),
+         (0, 1, 2, 3, 4, 6, 5, 7, 8), (0, 1, 2, 3, 4, 5, 6, 8, 7)), 240, False, False, None),
+    "five beside two": (((1, 2, 3, 4, 0, 5, 6), (1, 0, 2, 3, 4, 5, 6), (0, 1, 2, 3, 4, 6, 5)),
+                        240, False, False, None),
+    "seven lines": (((1, 2, 3, 4, 5, 6, 0), (0, 1, 4, 3, 2, 6, 5)), 168, False, False, None),
+}
+
+# More than 240 turns: 288, 336, 720 and 362880.
+TOO_LONG = (
+    ((1, 2, 3, 0, 4, 5, 6, 7), (1, 0, 2, 3, 4, 5, 6, 7),
+     (0, 1, 2, 3, 5, 6, 4, 7), (0, 1, 2, 3, 5, 4, 7, 6)),
+    ((1, 2, 3, 4, 5, 6, 0, 7, 8), (0, 1, 4, 3, 2, 6, 5, 7, 8), (0, 1, 2, 3, 4, 5, 6, 8, 7)),
+    ((1, 2, 3, 4, 5, 0), (1, 0, 2, 3, 4, 5)),
+    ((1, 2, 3, 4, 5, 6, 7, 8, 0), (1, 0, 2, 3, 4, 5, 6, 7, 8)),
+)
+
+# None of these is a lock, a turn, a tuple of turns or a ring.
+STRANGE = (
+    None, True, False, 0, 1, -1, 10 ** 30, "", "turn", "01", [], {}, [()], [1, 0], [0, 1, 2],
+    [[1, 0]], [(1, 0)], {0: 1, 1: 0}, {(1, 0): (1, 0)}, (None,), (True,), ("",), ([],), ({},),
+    (0,), (0, 0), (1, 2), (-1, 0), (0, -1), (True, False), (False, True), (1, False), (True, 0),
+    ("1", "0"), (None, None), ([1], [0]), ((1,), (0,)), ((1, 0), None), ((True, False),),
+    ((1, 0), (False, True)), ((0, 1, 2), [1, 2, 0]), ({0: 1}, {1: 0}), ((((),),),),
+    (0, 1, 2, 2), (1, 2, 3), (0, 1, 10 ** 30), (0, 1, None), (0, True, 2), (0, "1", 2),
+    (0, [1], 2), (0, {}, 2), (False, 1, 2), (0, 1, [2]), ([0, 1, 2],), ((0, 1, None),),
+    ((False, True, 2),),
+)
+
+
+def then(one, other):
+    """What stands at a place is led by one, and from there by other."""
+    return tuple(other[one[place]] for place in range(len(one)))
+
+
+def undone(turn):
+    return tuple(turn.index(place) for place in range(len(turn)))
+
+
+def commutator(one, other):
+    return then(then(then(one, other), undone(one)), undone(other))
+
+
+def closed(makers, size):
+    """All products of the makers, as a set."""
+    found = {tuple(range(size))}
+    while True:
+        more = found | {then(turn, maker) for turn in found for maker in makers}
+        if more == found:
+            return found
+        found = more
+
+
+def falling(turns, others):
+    """The terms of a series by its definition: others(term) is what stands second."""
+    terms = [tuple(sorted(turns))]
+    while True:
+        made = {commutator(one, two) for one in terms[-1] for two in others(terms[-1])}
+        term = tuple(sorted(closed(made, len(terms[0][0]))))
+        if len(term) == len(terms[-1]):
+            return tuple(terms)
+        terms.append(term)
+
+
+def small_locks():
+    """All locks of one or two given turns of 2 to 4 places."""
+    for size in (2, 3, 4):
+        every = list(permutations(range(size)))
+        for one in every:
+            yield (one,)
+            for other in every:
+                yield (one, other)
