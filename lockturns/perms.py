@@ -36,6 +36,14 @@ def back_of(turn):
     return tuple(led_from)
 
 
+def power_of(turn, many):
+    """Return the permutation that does one so often, at least once."""
+    reached = turn
+    for _ in range(many - 1):
+        reached = product_of(reached, turn)
+    return reached
+
+
 def bracket_of(one, other):
     """Return the commutator: one, other, one undone, other undone."""
     # One undone and then other undone is what undoes other and then one.

@@ -1,6 +1,7 @@
 """Values for the tests, and the document's words worked out the long way."""
 
-from itertools import permutations
+import random
+from itertools import combinations, permutations
 
 STILL_LOCK = ((0, 1, 2),)
 SQUARE = ((1, 2, 3, 0), (3, 2, 1, 0))
@@ -117,3 +118,70 @@ def small_locks():
             yield (one,)
             for other in every:
                 yield (one, other)
+
+
+def power(turn, many):
+    reached = tuple(range(len(turn)))
+    for _ in range(many):
+        reached = then(reached, turn)
+    return reached
+
+
+def conjugated(turn, naming):
+    """The same turn with its places named otherwise."""
+    led = [0] * len(turn)
+    for place, to in enumerate(turn):
+        led[naming[place]] = naming[to]
+    return tuple(led)
+
+
+def drawn_prime_locks(seed, many):
+    """Locks of a prime's power: 1 to 4 turns of a greatest such lock, places renamed.
+
+    Turns may be given twice, and the still one may be given.
+    """
+    drawn = random.Random(seed)
+    pools = [sorted(closed(LOCKS[name][0], len(LOCKS[name][0][0])))
+             for name in ("two squares over two", "threes over three")]
+    found = []
+    while len(found) < many:
+        pool = drawn.choice(pools)
+        naming = list(range(len(pool[0])))
+        drawn.shuffle(naming)
+        lock = [conjugated(drawn.choice(pool), naming) for _ in range(drawn.randint(1, 4))]
+        if len(lock) < 4 and drawn.random() < 0.3:
+            lock.append(drawn.choice([lock[0], tuple(range(len(naming)))]))
+        if any(given != tuple(range(len(naming))) for given in lock):
+            found.append(tuple(lock))
+    return found
+
+
+def drawn_row(drawn, turns, inputs, steps):
+    return tuple((drawn.randrange(inputs), drawn.choice(turns), drawn.choice(turns))
+                 for _ in range(steps))
+
+
+def product_for(row, size, place):
+    """What a row is worth for the inputs of a table's place."""
+    reached = tuple(range(size))
+    for own, no, yes in row:
+        reached = then(reached, yes if place & 2 ** own else no)
+    return reached
+
+
+def factor_by_definition(prime, table, part):
+    """A part's factor: by turns added and taken away, what the table is for inputs in it."""
+    total = 0
+    for many in range(len(part) + 1):
+        for chosen in combinations(part, many):
+            place = sum(2 ** own for own in chosen)
+            total += (-1) ** (len(part) - many) * table[place]
+    return total % prime
+
+
+def degree_by_definition(prime, table):
+    inputs = [own for own in range(6) if 2 ** own < len(table)]
+    for many in range(len(inputs), -1, -1):
+        if any(factor_by_definition(prime, table, part) for part in combinations(inputs, many)):
+            return many
+    return None

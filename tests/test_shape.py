@@ -14,6 +14,10 @@ INTERFACE = {
     "locks.py": ("all_turns", "is_made", "join", "undo", "rounds", "swapped", "word_for"),
     "series.py": ("lower", "derived", "center", "is_dying", "is_solved", "prime", "ring",
                   "shows_ring"),
+    "tasks.py": ("table_of", "all_of", "polynomial", "degree"),
+    "rows.py": ("worths", "written", "writes", "degrees"),
+    "weights.py": ("weighed", "told_number", "chains"),
+    "alls.py": ("most_all", "all_row"),
 }
 
 
