@@ -2,7 +2,8 @@
 
 from lockturns.errors import BadLock, BadTurn, TooMany
 from lockturns.perms import (
-    MOST_TURNS, are_numbers, back_of, bracket_of, is_permutation, product_of, still_of, words_of)
+    MOST_TURNS, are_numbers, back_of, bracket_of, is_permutation, product_of, rounds_of,
+    still_of, words_of)
 
 MOST_GIVEN = 4
 FEWEST_PLACES = 2
@@ -42,13 +43,7 @@ def undo(lock, turn):
 def rounds(lock, turn):
     """Return how often a turn must be done, at least once, until nothing is moved."""
     check_turn(made_words(lock), turn)
-    still = still_of(len(turn))
-    reached = turn
-    many = 1
-    while reached != still:
-        reached = product_of(reached, turn)
-        many += 1
-    return many
+    return rounds_of(turn)
 
 
 def swapped(lock, one, other):

@@ -44,6 +44,17 @@ def power_of(turn, many):
     return reached
 
 
+def rounds_of(turn):
+    """Return how often a permutation must be done, at least once, until nothing is moved."""
+    still = still_of(len(turn))
+    reached = turn
+    many = 1
+    while reached != still:
+        reached = product_of(reached, turn)
+        many += 1
+    return many
+
+
 def bracket_of(one, other):
     """Return the commutator: one, other, one undone, other undone."""
     # One undone and then other undone is what undoes other and then one.

@@ -75,6 +75,38 @@ STRANGE = (
     ((False, True, 2),),
 )
 
+NO_TABLES = (
+    None, True, False, 0, 1, 2, "", "01", "0101", [], [0, 1], [0, 1, 0, 1], {}, {0: 0, 1: 1},
+    (), (0,), (1,), (0, 1, 0), (0,) * 5, (0,) * 6, (1,) * 7, (0,) * 12, (0,) * 63, (0,) * 65,
+    (0,) * 96, (0,) * 128, (1,) * 256, (0, 2), (-1, 0), (0, 1, 1, 2), (True, False), (0, True),
+    (False, 0), (0, 1, 0, True), (0, 1, 0, False), ("0", "1"), (0, "1"), (0, None), (0, [1]),
+    (0, (1,)), ((0,), (1,)), ((0, 1), (0, 1)), (0, {}), (0, 10 ** 30), (0, 1, "x0", 1),
+    (0,) * 63 + (2,), (0,) * 63 + (True,), (0,) * 63 + ("",), ([0, 1],), ((0, 1),),
+)
+
+# None of these is a number of inputs.
+NO_NUMBERS = (0, 7, -1, 64, True, False, None, "", "2", (2,), [2], {}, {2: 2}, 10 ** 30)
+
+NO_TEXTS = (None, True, False, 0, 1, (), ("x0",), ["x0"], {"x0": 1}, (("x0",),), 10 ** 30)
+
+STILL, ODD, ROUND = (0, 1, 2), (1, 0, 2), (1, 2, 0)
+STEP = (0, STILL, ROUND)
+
+# What is no step of TRIANGLE for two inputs.
+NO_STEPS = (
+    None, True, 0, "", "abc", (), [], {}, (0, STILL), (0, STILL, ODD, ODD), [0, STILL, ODD],
+    (2, STILL, ODD), (-1, STILL, ODD), (6, STILL, ODD), (10 ** 30, STILL, ODD),
+    (True, STILL, ODD), (False, STILL, ODD), ("0", STILL, ODD), (None, STILL, ODD),
+    ((0,), STILL, ODD), ([0], STILL, ODD), ({}, STILL, ODD), ("x0", STILL, ODD),
+    (0, None, ODD), (0, STILL, None), (0, list(STILL), ODD), (0, STILL, list(ODD)),
+    (0, (0, 1), (1, 0)), (0, STILL, (1, 0)), (0, STILL, (1, 0, 2, 3)), (0, STILL, (1, 1, 2)),
+    (0, (), ODD), (0, STILL, (True, False, 2)), (0, (False, True, 2), ODD),
+    (0, STILL, (1, 0, "2")), (0, "012", ODD), (0, STILL, 1), (0, 0, 1), (0, STILL, (ODD,)),
+    (0, ([0], 1, 2), ODD), (0, STILL, {0: 1}), (STILL, ODD, 0), (STILL, ODD), ((0, STILL, ODD),),
+)
+
+NO_TUPLES = (None, True, False, 0, 3, "", "abc", [], [STEP], {}, {0: STEP}, (STEP,) * 6001)
+
 
 def then(one, other):
     """What stands at a place is led by one, and from there by other."""
@@ -185,3 +217,26 @@ def degree_by_definition(prime, table):
         if any(factor_by_definition(prime, table, part) for part in combinations(inputs, many)):
             return many
     return None
+
+
+def drawn_formula(drawn, inputs, deep):
+    """(text, what it is worth for told inputs), with spaces here and there."""
+    kind = drawn.choice(("input", "not", "and", "or", "xor")) if deep else "input"
+    if kind == "input":
+        own = drawn.randrange(inputs)
+        return f"x{own}", lambda told: told[own]
+    one, one_worth = drawn_formula(drawn, inputs, deep - 1)
+    if kind == "not":
+        return "not" + gap(drawn, one[0] != "(") + one, lambda told: 1 - one_worth(told)
+    other, other_worth = drawn_formula(drawn, inputs, deep - 1)
+    text = ("(" + gap(drawn, False) + one + gap(drawn, one[-1] != ")") + kind
+            + gap(drawn, other[0] != "(") + other + gap(drawn, False) + ")")
+    if kind == "and":
+        return text, lambda told: int(one_worth(told) + other_worth(told) == 2)
+    if kind == "or":
+        return text, lambda told: int(one_worth(told) + other_worth(told) >= 1)
+    return text, lambda told: int(one_worth(told) + other_worth(told) == 1)
+
+
+def gap(drawn, must):
+    return " " * (drawn.choice((0, 0, 1, 1, 2, 5)) or int(must))

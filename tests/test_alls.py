@@ -10,9 +10,8 @@ from lockturns.rows import degrees, worths, writes, written
 from lockturns.tasks import all_of
 from lockturns.weights import told_number
 from samples import (
-    LOCKS, SQUARE, STRANGE, TOO_LONG, TRIANGLE, drawn_prime_locks, drawn_row, small_locks, then)
-
-NO_NUMBERS = (0, 7, -1, 64, True, False, None, "", "2", (2,), [2], {}, {2: 2}, 10 ** 30)
+    LOCKS, NO_NUMBERS, SQUARE, STRANGE, TOO_LONG, TRIANGLE, drawn_prime_locks, drawn_row,
+    small_locks, then)
 
 
 class AllsTest(unittest.TestCase):

@@ -9,33 +9,8 @@ from lockturns.errors import BadLock, BadNumber, BadRow, BadTask, BadTurn, NotPr
 from lockturns.locks import all_turns
 from lockturns.rows import degrees, worths, writes, written
 from samples import (
-    FIVE, LOCKS, SQUARE, STRANGE, TOO_LONG, TRIANGLE, degree_by_definition, drawn_row,
-    product_for)
-
-STILL = (0, 1, 2)
-ODD = (1, 0, 2)
-ROUND = (1, 2, 0)
-STEP = (0, STILL, ROUND)
-
-# What is no step of TRIANGLE for two inputs.
-NO_STEPS = (
-    None, True, 0, "", "abc", (), [], {}, (0, STILL), (0, STILL, ODD, ODD), [0, STILL, ODD],
-    (2, STILL, ODD), (-1, STILL, ODD), (6, STILL, ODD), (10 ** 30, STILL, ODD),
-    (True, STILL, ODD), (False, STILL, ODD), ("0", STILL, ODD), (None, STILL, ODD),
-    ((0,), STILL, ODD), ([0], STILL, ODD), ({}, STILL, ODD), ("x0", STILL, ODD),
-    (0, None, ODD), (0, STILL, None), (0, list(STILL), ODD), (0, STILL, list(ODD)),
-    (0, (0, 1), (1, 0)), (0, STILL, (1, 0)), (0, STILL, (1, 0, 2, 3)), (0, STILL, (1, 1, 2)),
-    (0, (), ODD), (0, STILL, (True, False, 2)), (0, (False, True, 2), ODD),
-    (0, STILL, (1, 0, "2")), (0, "012", ODD), (0, STILL, 1), (0, 0, 1), (0, STILL, (ODD,)),
-    (0, ([0], 1, 2), ODD), (0, STILL, {0: 1}), (STILL, ODD, 0), (STILL, ODD), ((0, STILL, ODD),),
-)
-
-NO_TUPLES = (None, True, False, 0, 3, "", "abc", [], [STEP], {}, {0: STEP}, (STEP,) * 6001)
-
-NO_NUMBERS = (0, 7, -1, True, False, None, "2", (2,), [2], {}, 10 ** 30)
-
-NO_TABLES = (None, True, 0, "01", [0, 1], (), (1,), (0, 1, 0), (0,) * 128, (0, 2), (0, True),
-             ("0", "1"), {0: 1})
+    FIVE, LOCKS, NO_NUMBERS, NO_STEPS, NO_TABLES, NO_TUPLES, ODD, ROUND, SQUARE, STEP, STILL,
+    STRANGE, TOO_LONG, TRIANGLE, degree_by_definition, drawn_row, product_for)
 
 
 class WorthsTest(unittest.TestCase):

@@ -18,6 +18,9 @@ INTERFACE = {
     "rows.py": ("worths", "written", "writes", "degrees"),
     "weights.py": ("weighed", "told_number", "chains"),
     "alls.py": ("most_all", "all_row"),
+    "fulls.py": ("can_all", "row_for"),
+    "formulas.py": ("formula_row",),
+    "tidy.py": ("tidied", "fewest"),
 }
 
 

@@ -7,23 +7,13 @@ import unittest
 
 from lockturns.errors import BadNumber, BadSign, BadString, BadTask
 from lockturns.tasks import all_of, degree, polynomial, table_of
-from samples import degree_by_definition, factor_by_definition
+from samples import (
+    NO_TABLES, NO_TEXTS, degree_by_definition, drawn_formula, factor_by_definition, gap)
 
 PRIMES = (2, 3, 5, 7)
 
 NO_NUMBERS = (None, True, False, "", "2", "x0", (), (2,), [], [2], {}, {2: 2}, -1, -2,
               10 ** 30, -10 ** 30, (True,), "True")
-
-NO_TEXTS = (None, True, False, 0, 1, (), ("x0",), ["x0"], {"x0": 1}, (("x0",),), 10 ** 30)
-
-NO_TABLES = (
-    None, True, False, 0, 1, 2, "", "01", "0101", [], [0, 1], [0, 1, 0, 1], {}, {0: 0, 1: 1},
-    (), (0,), (1,), (0, 1, 0), (0,) * 5, (0,) * 6, (1,) * 7, (0,) * 12, (0,) * 63, (0,) * 65,
-    (0,) * 96, (0,) * 128, (1,) * 256, (0, 2), (-1, 0), (0, 1, 1, 2), (True, False), (0, True),
-    (False, 0), (0, 1, 0, True), (0, 1, 0, False), ("0", "1"), (0, "1"), (0, None), (0, [1]),
-    (0, (1,)), ((0,), (1,)), ((0, 1), (0, 1)), (0, {}), (0, 10 ** 30), (0, 1, "x0", 1),
-    (0,) * 63 + (2,), (0,) * 63 + (True,), (0,) * 63 + ("",), ([0, 1],), ((0, 1),),
-)
 
 # inputs, text, and the place that BadSign tells.
 BAD_FORMULAS = (
@@ -62,29 +52,6 @@ BAD_FORMULAS = (
     (1, "\u00d70", 0), (1, "x0_", 2), (1, "_x0", 0), (1, "-x0", 0), (1, "~x0", 0), (1, "x0'", 2),
     (1, "not\u00e9 x0", 3), (1, "not \u2003x0", 4), (1, "\U0001d4b40", 0), (1, "x0\ud800", 2),
 )
-
-
-def drawn_formula(drawn, inputs, deep):
-    """(text, what it is worth for told inputs), with spaces here and there."""
-    kind = drawn.choice(("input", "not", "and", "or", "xor")) if deep else "input"
-    if kind == "input":
-        own = drawn.randrange(inputs)
-        return f"x{own}", lambda told: told[own]
-    one, one_worth = drawn_formula(drawn, inputs, deep - 1)
-    if kind == "not":
-        return "not" + gap(drawn, one[0] != "(") + one, lambda told: 1 - one_worth(told)
-    other, other_worth = drawn_formula(drawn, inputs, deep - 1)
-    text = ("(" + gap(drawn, False) + one + gap(drawn, one[-1] != ")") + kind
-            + gap(drawn, other[0] != "(") + other + gap(drawn, False) + ")")
-    if kind == "and":
-        return text, lambda told: int(one_worth(told) + other_worth(told) == 2)
-    if kind == "or":
-        return text, lambda told: int(one_worth(told) + other_worth(told) >= 1)
-    return text, lambda told: int(one_worth(told) + other_worth(told) == 1)
-
-
-def gap(drawn, must):
-    return " " * (drawn.choice((0, 0, 1, 1, 2, 5)) or int(must))
 
 
 def told_inputs(inputs, place):
