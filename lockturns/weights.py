@@ -24,6 +24,13 @@ def told_number(lock):
     return (base - 1) * sum([exponent_of(base, len(term)) for term in weighed(lock)])
 
 
+def exponents(lock):
+    """Return the tuple of e(1), e(2) and so on, as many as there are terms by weight."""
+    base = own_prime(lock)
+    reached = [exponent_of(base, len(term)) for term in weighed(lock)] + [0]
+    return tuple([one - other for one, other in zip(reached, reached[1:])])
+
+
 def chains(lock):
     """Return the pairs (given turns, length) whose commutators' powers make each turn once.
 

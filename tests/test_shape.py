@@ -21,6 +21,17 @@ INTERFACE = {
     "fulls.py": ("can_all", "row_for"),
     "formulas.py": ("formula_row",),
     "tidy.py": ("tidied", "fewest"),
+    "locktexts.py": ("write_lock", "read_lock", "write_row", "read_row"),
+    "benches.py": ("Dial",),
+    "desks.py": ("Desk",),
+    "sessions.py": ("Session", "read_session", "first_unlike"),
+}
+
+# What the interface lists for each class, in the order in which it does.
+METHODS = {
+    "benches.py": ("turn", "step", "undo", "home", "stands", "done"),
+    "desks.py": ("take_lock", "say"),
+    "sessions.py": ("say", "text", "log"),
 }
 
 
@@ -58,6 +69,14 @@ class ShapeTest(unittest.TestCase):
             tree = ast.parse((PACKAGE / name).read_text())
             defined = [node.name for node in tree.body
                        if isinstance(node, (ast.FunctionDef, ast.ClassDef))]
+            for word in words:
+                self.assertEqual(defined.count(word), 1, word)
+
+    def test_the_methods_are_defined_in_their_classes(self):
+        for name, words in METHODS.items():
+            tree = ast.parse((PACKAGE / name).read_text())
+            [body] = [node.body for node in tree.body if isinstance(node, ast.ClassDef)]
+            defined = [node.name for node in body if isinstance(node, ast.FunctionDef)]
             for word in words:
                 self.assertEqual(defined.count(word), 1, word)
 
